@@ -558,6 +558,26 @@ func TestDeclaredTree(t *testing.T) {
 	isOf(t, &touched, []tree.File{file("a", "", 1)}, "Touch")
 }
 
+func TestNilTree(t *testing.T) {
+	var none *tree.Tree
+	isOf(t, none, nil, "a tree that is nil")
+	isOf(t, none.Copy(), nil, "its copy")
+	for what, got := range map[string][2]error{
+		"Put":              {none.Put("a", "x", 1), api.ErrFull},
+		"Put of no name":   {none.Put("a b", "x", 1), api.ErrName},
+		"Put of too much":  {none.Put("a", tooLong, 1), api.ErrLong},
+		"Put at no time":   {none.Put("a", "x", 0), api.ErrRange},
+		"Touch":            {none.Touch("a", 1), api.ErrFull},
+		"Touch of no name": {none.Touch("", 1), api.ErrName},
+		"Touch at no time": {none.Touch("a", 0), api.ErrRange},
+		"Remove":           {none.Remove("a"), api.ErrNone},
+	} {
+		if !wants(got[0], got[1]) {
+			t.Errorf("%s: %v, not %v", what, got[0], got[1])
+		}
+	}
+}
+
 // act is one call that may change a tree, and what the chapter's words do to a list of files.
 type act struct {
 	what  string
